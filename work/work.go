@@ -1,4 +1,4 @@
-// Package work is what the layers' ops have in common: a core at a step of its top, and what such a step does. It stands beside the layers, over core and below msq.
+// Package work is what layers have in common: a core at a step of its top, what such a step does, and how a first node is taken for what is made. It stands beside the layers, over stack and below msq.
 package work
 
 import (
@@ -69,9 +69,14 @@ func (w Work) Store(at, v int) Work {
 	return w
 }
 
+// Cas compares the word at a place with one that was seen, and swaps it to another one.
+func (w Work) Cas(at, seen, to int) (Work, bool) {
+	var was bool
+	w.M, was = mem.Cas(w.M, at, seen, to)
+	return w, was
+}
+
 // Swap compares the word at a place with one that was seen, and swaps it to its next one, of an index and a mark.
 func (w Work) Swap(at, seen, index, mark int) (Work, bool) {
-	var was bool
-	w.M, was = mem.Cas(w.M, at, seen, pack.Next(seen, index, mark))
-	return w, was
+	return w.Cas(at, seen, pack.Next(seen, index, mark))
 }

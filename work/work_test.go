@@ -6,6 +6,8 @@ import (
 
 	"hazel/api"
 	"hazel/core"
+	"hazel/mem"
+	"hazel/stack"
 	"hazel/work"
 )
 
@@ -75,8 +77,48 @@ func TestDoes(t *testing.T) {
 	if !slices.Equal(w.L, []api.Ev{{Core: 1, Kind: api.EIns, A: 5, V: 50}}) || len(first.L) > 0 || first.M.W[100] != 0 || first.R[3] != 0 {
 		t.Errorf("%v, %v, %d, %d", w.L, first.L, first.M.W[100], first.R[3])
 	}
+	not, was := w.Cas(100, 2097158, 7)
+	to, wasIt := w.Cas(100, 2097159, 7)
+	if was || !wasIt || not.M.W[100] != 2097159 || to.M.W[100] != 7 || w.M.W[100] != 2097159 {
+		t.Errorf("%t, %t, %d, %d", was, wasIt, not.M.W[100], to.M.W[100])
+	}
 	bad, is := w.Holds(-1, 0)
 	if !is || !bad.M.Bad || !w.Load(3, 400).M.Bad || !w.Store(400, 1).M.Bad || w.M.Bad {
 		t.Errorf("%t, %t", is, w.M.Bad)
+	}
+}
+
+// TestWord: what a place tells, and 0 where there is none; a free node's cell, too. The arena isn't touched.
+func TestWord(t *testing.T) {
+	m, _ := mem.New(2)
+	m.W[100], m.W[130] = 7, 8
+	if a, b, c, d := work.Word(m, 100), work.Word(m, 130), work.Word(m, -1), work.Word(m, 136); a != 7 || b != 8 || c != 0 || d != 0 || m.Bad {
+		t.Errorf("%d, %d, %d, %d, Bad %t", a, b, c, d, m.Bad)
+	}
+}
+
+// TestFirst: the first free node is taken, its Next tells none, and the others are left, in order; of an empty list, and of one that can't be walked, none is, and the arena is as it was.
+func TestFirst(t *testing.T) {
+	m, _ := mem.New(3)
+	m = stack.Fill(m)
+	m.W[129], m.W[133] = 5<<21+3<<1+1, 1<<61-2
+	for i, left := range [][]int{{2, 3}, {3}, {}} {
+		kept := mem.Store(m, 0, m.W[0])
+		after, node, is := work.First(m)
+		free, walked := stack.Walk(after)
+		if !is || node != i+1 || !walked || !slices.Equal(free, left) || after.G[node] != api.Live || after.Bad || after.W[0]>>21 != i+1 {
+			t.Errorf("%d, %t, free %v, %t, nodes %v, head %d", node, is, free, walked, after.G, after.W[0])
+		}
+		if next := after.W[125+4*node]; next != []int{6 << 21, 0, 1 << 21}[i] || !mem.Same(m, kept) {
+			t.Errorf("node %d: Next %d", node, next)
+		}
+		m = after
+	}
+	loop := mem.Store(m, 0, 1<<1)
+	loop.W[128] = 1
+	for _, m := range []api.Mem{m, loop} {
+		if after, node, is := work.First(m); is || node != 0 || !mem.Same(after, m) {
+			t.Errorf("%d, %t, %v", node, is, after)
+		}
 	}
 }
